@@ -1,0 +1,127 @@
+"""The interface at the end of the document, and the rules of the language that a walk over the trees can see."""
+
+import ast
+import builtins
+import importlib
+import inspect
+import os
+import unittest
+
+import askorhold
+
+FOLDER = os.path.dirname(os.path.abspath(askorhold.__file__))
+# The modules in the order in which they stand in the document, with what they define and the arguments.
+INTERFACE = {
+    "errors": "AskError Cannot(deed) Contrary(call) Endless(call) NoCommand(line) NoFunction(name) NoTree(place) Nothing "
+              "NothingToAsk TooMany(most) Wrong(place)",
+    "forms": "is_integer(thing) is_name(thing) is_lot(thing) is_value(thing) is_fault(thing) is_result(thing) "
+             "is_call(thing) is_notes(thing) are_alike(one,other) are_alike_calls(one,other) weight(result) "
+             "digits_of(number) result_in(notes,call)",
+    "trees": "is_expression(thing) is_function(thing) is_program(thing) depth_of(expression) lets_deep(expression) "
+             "free_names(expression) names_called(expression) changed_names(program,other) function_of(program,name) "
+             "with_function(program,function) without_function(program,name)",
+    "shower": "show_expression(expression) show_function(function) show_program(program)",
+}
+ALLOWED = set(
+    "len range enumerate zip min max sum abs sorted reversed int str bool bytes list tuple dict set frozenset isinstance "
+    "ord repr any all divmod type True False None ValueError".split()
+)
+
+
+def source_of(name):
+    with open(os.path.join(FOLDER, name + ".py"), encoding="ascii") as file:
+        return file.read()
+
+
+def tree_of(name):
+    return ast.parse(source_of(name))
+
+
+def arguments_of(thing):
+    if isinstance(thing, type) and "__init__" not in vars(thing):
+        return []
+    function = thing.__init__ if isinstance(thing, type) else thing
+    return [name for name in inspect.signature(function).parameters if name != "self"]
+
+
+class InterfaceTest(unittest.TestCase):
+    def test_each_name_is_defined_in_its_file_with_its_arguments(self):
+        for name, listed in INTERFACE.items():
+            module = importlib.import_module("askorhold." + name)
+            defined = [node.name for node in tree_of(name).body if isinstance(node, (ast.FunctionDef, ast.ClassDef))]
+            for entry in listed.split():
+                word, _, rest = entry.partition("(")
+                with self.subTest(module=name, word=word):
+                    self.assertIn(word, defined)
+                    wanted = [argument for argument in rest.rstrip(")").split(",") if argument]
+                    self.assertEqual(arguments_of(getattr(module, word)), wanted)
+
+    def test_the_folder_holds_just_the_modules(self):
+        files = sorted(name for name in os.listdir(FOLDER) if name != "__pycache__")
+        self.assertEqual(files, sorted(["__init__.py"] + [name + ".py" for name in INTERFACE]))
+        self.assertEqual(source_of("__init__"), "")
+
+
+class LanguageTest(unittest.TestCase):
+    def test_sizes_and_signs(self):
+        for name in INTERFACE:
+            text = source_of(name)
+            self.assertLessEqual(len(text.splitlines()), 399, name)
+            for line in text.split("\n"):
+                self.assertLessEqual(len(line), 120, line)
+                self.assertTrue(all(" " <= sign <= "~" for sign in line), line)
+            for node in ast.walk(tree_of(name)):
+                if isinstance(node, ast.FunctionDef):
+                    self.assertLessEqual(node.end_lineno - node.lineno + 1, 40, node.name)
+                    self.assertEqual(node.decorator_list, [])
+
+    def test_imports_come_from_modules_above_and_from_the_file_that_defines(self):
+        above = []
+        for name in INTERFACE:
+            for node in ast.walk(tree_of(name)):
+                self.assertNotIsInstance(node, ast.Import)
+                if isinstance(node, ast.ImportFrom):
+                    self.assertIn(node.module, ["askorhold." + other for other in above])
+                    bound = bound_in(tree_of(node.module.split(".")[1]))
+                    for alias in node.names:
+                        self.assertIsNone(alias.asname)
+                        self.assertIn(alias.name, bound)
+            above.append(name)
+
+    def test_builtins(self):
+        known = set(vars(builtins))
+        for name in INTERFACE:
+            for node in ast.walk(tree_of(name)):
+                if isinstance(node, ast.Name) and node.id in known:
+                    self.assertIn(node.id, ALLOWED, name)
+                    self.assertIsInstance(node.ctx, ast.Load, name)
+                if isinstance(node, (ast.FunctionDef, ast.ClassDef)):
+                    self.assertNotIn(node.name, known, name)
+                if isinstance(node, ast.arg):
+                    self.assertNotIn(node.arg, known, name)
+                self.assertNotIsInstance(node, (ast.Global, ast.Nonlocal, ast.AsyncFunctionDef, ast.Div, ast.GeneratorExp))
+                if isinstance(node, ast.Constant):
+                    self.assertNotIsInstance(node.value, float)
+
+    def test_no_local_name_is_that_of_an_import_or_of_what_the_file_defines(self):
+        for name in INTERFACE:
+            tree = tree_of(name)
+            taken = set(bound_in(tree)) | {
+                alias.name for node in tree.body if isinstance(node, ast.ImportFrom) for alias in node.names
+            }
+            for function in [node for node in ast.walk(tree) if isinstance(node, ast.FunctionDef)]:
+                for node in ast.walk(function):
+                    if isinstance(node, ast.arg):
+                        self.assertNotIn(node.arg, taken, (name, function.name))
+                    if isinstance(node, ast.Name) and isinstance(node.ctx, ast.Store):
+                        self.assertNotIn(node.id, taken, (name, function.name))
+
+
+def bound_in(tree):
+    names = []
+    for node in tree.body:
+        if isinstance(node, (ast.FunctionDef, ast.ClassDef)):
+            names.append(node.name)
+        if isinstance(node, ast.Assign):
+            names.extend(target.id for target in node.targets)
+    return names
