@@ -21,6 +21,11 @@ INTERFACE = {
              "free_names(expression) names_called(expression) changed_names(program,other) function_of(program,name) "
              "with_function(program,function) without_function(program,name)",
     "shower": "show_expression(expression) show_function(function) show_program(program)",
+    "reader": "read_program(text) read_function(text)",
+    "bodies": "worked_out(program,call,notes) evaluated(expression,names,notes)",
+    "runs": "run(program,call,most) result_of(program,call,most) nested_result(program,call,most)",
+    "webs": "is_web(thing) is_known(web,thing) below(web,u) above(web,v) open_below(web,known,u) with_known(known,lot) "
+            "shadow(web,known,u)",
 }
 ALLOWED = set(
     "len range enumerate zip min max sum abs sorted reversed int str bool bytes list tuple dict set frozenset isinstance "
