@@ -11,10 +11,11 @@ MOST_DEPTH = 12
 
 
 class Reading:
-    """The words of a text, how far they are read, the names in scope, and how many words are open."""
+    """The words of a text, how far they are read, the names in scope, and how many words are and may be open."""
 
-    def __init__(self, words):
+    def __init__(self, words, most_open):
         self.words = words
+        self.most_open = most_open
         self.place = 0
         self.scope = []
         self.many_open = 0
@@ -37,7 +38,7 @@ class Reading:
 
     def enter(self):
         """Go on over a word that is open from here on."""
-        if self.many_open == MOST_OPEN:
+        if self.many_open == self.most_open:
             raise NoTree(self.place)
         self.many_open += 1
         self.step()
@@ -71,7 +72,7 @@ def read_program(text):
     """Return the PROGRAM that a text shows."""
     if not is_string(text):
         raise Wrong(0)
-    reading = Reading(words_of(text))
+    reading = Reading(words_of(text), MOST_OPEN)
     functions = [function(reading, [])]
     while reading.word() is not None:
         functions.append(function(reading, [earlier[0] for earlier in functions]))
@@ -83,7 +84,7 @@ def read_function(text):
     """Return the one FUNCTION that a text shows."""
     if not is_string(text):
         raise Wrong(0)
-    reading = Reading(words_of(text))
+    reading = Reading(words_of(text), MOST_OPEN)
     shown = function(reading, [])
     if reading.word() is not None:
         raise NoTree(reading.place)
@@ -239,12 +240,18 @@ def name_or_call(reading):
 def parts(reading, closing):
     """Read an opening bracket, E's with commas between, and the closing bracket."""
     reading.enter()
+    found = listed(reading, closing, expression)
+    reading.leave()
+    return found
+
+
+def listed(reading, closing, read_part):
+    """Read what a function reads, with commas between, and the closing bracket."""
     found = []
     if reading.word() != closing:
-        found.append(expression(reading))
+        found.append(read_part(reading))
         while reading.word() == ",":
             reading.step()
-            found.append(expression(reading))
+            found.append(read_part(reading))
     reading.expect(closing)
-    reading.leave()
     return tuple(found)

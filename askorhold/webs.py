@@ -35,6 +35,18 @@ def below(web, u):
     return open_below(web, (), u)
 
 
+def all_below(web):
+    """Return a list that has for each NODE a dict of all NODES BELOW it."""
+    found = []
+    for node in web:
+        lower = {}
+        for callee in node[0]:
+            lower[callee] = True
+            lower.update(found[callee])
+        found.append(lower)
+    return found
+
+
 def above(web, v):
     """Return the LOT of all NODES that v is BELOW."""
     is_above = [False] * len(web)

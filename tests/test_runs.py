@@ -1,6 +1,5 @@
 """[17], and the guarantee [5]."""
 
-import random
 import unittest
 
 from askorhold.bodies import worked_out
@@ -8,6 +7,7 @@ from askorhold.errors import Endless, TooMany
 from askorhold.forms import are_alike, is_notes, result_in
 from askorhold.reader import read_program
 from askorhold.runs import nested_result, result_of, run
+from programs import Programs
 
 KIND, ZERO, EMPTY, GREAT, COUNT = [("fault", word) for word in ("kind", "zero", "empty", "great", "count")]
 FIB = read_program("fun fib ( n ) = if n < 2 then n else fib ( n - 1 ) + fib ( n - 2 ) ;")
@@ -186,33 +186,6 @@ class NestedTest(unittest.TestCase):
             body = ("two", "+", ("number", 1), body)
         program = (("f", ("n",), ("if", ("two", "==", ("name", "n"), ("number", 0)), ("number", 0), body)),)
         self.assertEqual(nested_result(program, ("f", (19,)), 20), 17 * 19)
-
-
-class Programs:
-    """PROGRAMS of three FUNCTIONS that call one another, always the same ones for a seed."""
-
-    def __init__(self, seed):
-        self.chance = random.Random(seed)
-
-    def body(self, depth):
-        kind = self.chance.randrange(10) if depth else self.chance.randrange(3)
-        part = lambda: self.body(depth - 1)
-        if kind == 0:
-            return self.chance.choice(["0", "1", "2", "true", "false", "[ ]"])
-        if kind < 3:
-            return "x"
-        if kind < 6:
-            return f"{self.chance.choice('fgh')} ( {self.chance.choice(['x', 'x - 1', 'rest ( x )', 'x < 1', '1', 'true'])} )"
-        if kind == 6:
-            return f"( if {part()} then {part()} else {part()} )"
-        if kind == 7:
-            return f"[ {part()} , {part()} ]"
-        if kind == 8:
-            return f"( let x = {part()} in {part()} )"
-        return f"( {part()} {self.chance.choice(['and', 'or', '==', '<', '+', '-', '*', '/'])} {part()} )"
-
-    def program(self):
-        return read_program(" ".join(f"fun {name} ( x ) = if x == 0 or x == [ ] then 1 else {self.body(3)} ;" for name in "fgh"))
 
 
 class BothTest(unittest.TestCase):

@@ -3,7 +3,7 @@
 import itertools
 import unittest
 
-from askorhold.webs import above, below, is_known, is_web, open_below, shadow, with_known
+from askorhold.webs import above, all_below, below, is_known, is_web, open_below, shadow, with_known
 from things import ANY
 
 LEAF = ((), 1, 0)
@@ -79,6 +79,7 @@ class BelowTest(unittest.TestCase):
         for web in WEBS:
             for u in range(len(web)):
                 self.assertEqual(below(web, u), tuple(sorted(paths(web, (), u))))
+            self.assertEqual([tuple(sorted(lower)) for lower in all_below(web)], [below(web, u) for u in range(len(web))])
 
     def test_above(self):
         wanted = [(1, 2, 3, 4, 6), (2, 3, 4, 6), (4, 6), (4, 6), (6,), (), ()]
