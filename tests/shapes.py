@@ -3,6 +3,8 @@
 import itertools
 import random
 
+from askorhold.errors import TooMany
+
 
 def web_of_callees(rows, prices=(1,), readings=(0,)):
     """The WEB with these callees, prices and readings being taken in turn."""
@@ -52,3 +54,30 @@ def chance_webs(seed, many, most):
             web.append((tuple(sorted(callees)), chance.randint(1, 4), chance.choice((0, 0, 1, 5))))
         known = tuple(at for at in range(size - 1) if chance.random() < 0.2)
         yield tuple(web), known
+
+
+def many_open():
+    """Tuples (web, known, w, whether more than 10 NODES are OPEN below w)."""
+    cases = []
+    for rows in (star(12), line(12), full(12)):
+        web = web_of_callees(rows, (1, 2), (0, 1))
+        cases.extend([(web, (), 11, True), (web, (), 10, False), (web, (4,), 11, False), (web, (0, 1), 11, False)])
+    cases.append((web_of_callees(star(11)), (), 10, False))
+    # 58 are below, but only 10, or 11, are OPEN.
+    web = web_of_callees(line(60), (1, 3), (2, 0))
+    return cases + [(web, (48,), 59, False), (web, (47,), 59, True)]
+
+
+def check_too_many(case, dos):
+    """Check that each function raises TooMany(10) for a web, known and w just where more than 10 NODES are OPEN."""
+    for web, known, w, is_too_many in many_open():
+        for do in dos:
+            if is_too_many:
+                with case.assertRaises(TooMany) as caught:
+                    do(web, known, w)
+                case.assertEqual(caught.exception.most, 10)
+            else:
+                do(web, known, w)
+
+
+CASES = [(web, ()) for web in WEBS] + list(chance_webs(1, 150, 7))

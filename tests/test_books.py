@@ -256,6 +256,13 @@ class IsEntryTest(unittest.TestCase):
         self.assertIs(is_entry(KINDS, (), (ONE, (1,), ())), True)
         self.assertIs(is_entry(KINDS, (), (ONE, (True,), ())), False)
 
+    def test_results_that_are_none(self):
+        for value in (True, False, (), (True, ()), 1):
+            call = ("same", (value,))
+            self.assertIs(is_entry(KINDS, (), (call, value, ())), True)
+            for result in ("true", "false", "1", "list of 0", ("true", ()), ("true", "list of 0"), None, [], ("list of 2", "true", ())):
+                self.assertIs(is_entry(KINDS, (), (call, result, ())), False)
+
     def test_entries_with_one_part_otherwise(self):
         for program, call in RUNS:
             book = book_of(program, call, 60)
