@@ -62,30 +62,36 @@ def rooms_to(ground):
 
 
 def gone_through(ground, k):
-    """Go from LOT to LOT, the nearest ones first, by DEEDS that FIT k, up to the first LOT that COMES to w.
+    """Go from LOT to LOT by all DEEDS that FIT k, the nearest ones first.
 
-    Return the dict from the LOTS to the tuples (LOT ahead, DEED), and the LOT that COMES, None if there is none.
+    Return the dict from the LOTS, in this order, to the tuples (LOT ahead, DEED).
     """
     ways = {(): ((), None)}
     nearest = [()]
     while nearest:
         next_ones = []
         for held in nearest:
-            if ground.is_end(k, held):
-                return ways, held
             for deed, lot in ground.steps_in(k, held):
                 if lot not in ways:
                     ways[lot] = (held, deed)
                     next_ones.append(lot)
         nearest = next_ones
-    return ways, None
+    return ways
+
+
+def ends_of(ground, k, ways):
+    """Return the LOTS that were gone through and COME to w in k, the nearest ones first."""
+    return [held for held in ways if ground.is_end(k, held)]
 
 
 def fewest_deeds(web, known, w, k):
     """Return a row with as few DEEDS as can be that COMES to w in k, None if there is none."""
-    ways, held = gone_through(ground_of(web, known, w), k)
-    if held is None:
+    ground = ground_of(web, known, w)
+    ways = gone_through(ground, k)
+    ends = ends_of(ground, k, ways)
+    if not ends:
         return None
+    held = ends[0]
     deeds = []
     while held:
         held, deed = ways[held]
@@ -95,8 +101,9 @@ def fewest_deeds(web, known, w, k):
 
 def closed_lot(web, known, w, k):
     """Return the CLOSED LOT of all LOTS to which rows of DEEDS lead in k, None if some row COMES to w."""
-    ways, held = gone_through(ground_of(web, known, w), k)
-    if held is not None:
+    ground = ground_of(web, known, w)
+    ways = gone_through(ground, k)
+    if ends_of(ground, k, ways):
         return None
     return tuple(sorted(ways))
 

@@ -1,35 +1,17 @@
 """[27], with the definitions in [2] (HELD, SIZE, READY, DEEDS, FITS, COMES)."""
 
 import itertools
-import random
 import unittest
 
 from askorhold.deeds import backward, behind, comes, done, fits, is_deed, is_ready, may_do, room_needed, size_of
-from askorhold.webs import below
 from shapes import WEBS, chance_webs, line, lots, web_of_callees
+from steps import WORDS, plain_may, plain_room, rows_of
 from things import ANY
 
 LINE = web_of_callees(line(4))
 DEAR = (((), 2, 3), ((0,), 1, 0), ((0,), 4, 1), ((1, 2), 1, 2), ((3,), 1, 9))
 ROW = (("put", 0), ("put", 1), ("take", 0), ("put", 2))
-WORDS = ("put", "take", "throw")
 CASES = [(web, ()) for web in WEBS[::2]] + list(chance_webs(8, 40, 6))
-
-
-def plain_may(web, known, held, deed):
-    """The definition of the DEEDS, word by word."""
-    word, v = deed
-    ready = set(web[v][0]) <= set(held) | set(known)
-    if word == "put":
-        return ready and v not in held and v not in known
-    if word == "take":
-        return v in held and ready
-    return v in held and not any(v in below(web, u) for u in held)
-
-
-def plain_room(web, held, deed):
-    size = sum(web[v][1] for v in held)
-    return {"put": size + web[deed[1]][1] + web[deed[1]][2], "take": size + web[deed[1]][2], "throw": 0}[deed[0]]
 
 
 def plain_comes(web, known, k, held, w):
@@ -40,20 +22,6 @@ def plain_comes(web, known, k, held, w):
 def states(web, known):
     """All LOTS that can be HELD."""
     return lots([v for v in range(len(web)) if v not in known])
-
-
-def rows_of(seed, web, known, k, many, words=WORDS):
-    """A row of DEEDS that can be done, and FIT k."""
-    chance = random.Random(seed)
-    held, row = set(), []
-    for _ in range(many):
-        deeds = [(word, v) for word in words for v in range(len(web))]
-        deeds = [deed for deed in deeds if plain_may(web, known, held, deed) and plain_room(web, held, deed) <= k]
-        if not deeds:
-            break
-        row.append(chance.choice(deeds))
-        held ^= {row[-1][1]}
-    return tuple(row), tuple(sorted(held))
 
 
 class IsDeedTest(unittest.TestCase):

@@ -41,6 +41,13 @@ INTERFACE = {
              "room_needed(web,known,deeds,w) backward(deeds)",
     "rooms": "least_room(web,known,w) fewest_deeds(web,known,w,k) closed_lot(web,known,w,k) "
              "is_closed_lot(web,known,w,k,thing)",
+    "stairs": "staircase(web,known,w) distances(web,known,w,k) are_distances(web,known,w,k,many,thing)",
+    "turning": "deeds_of(web,known,w,plan) put_deeds(web,known,w,plan)",
+    "orders": "is_order(web,known,k,held,thing) order_behind(web,known,k,order,deed) order_known(order,lot) "
+              "order_thrown(order,lot) order_renamed(order,names) plan_from(web,order,w) plan_of_deeds(web,known,k,deeds,w) "
+              "led(web,known,k,deeds)",
+    "ranks": "is_tree(web) is_ranks(web,thing) least_ranks(web) ranks_of_plan(web,plan) least_rank(web) "
+             "plan_of_ranks(web,ranks)",
 }
 # What LANGUAGE.md lets in from outside, here.
 LIBRARY = {"heapq": ["heappop", "heappush"]}

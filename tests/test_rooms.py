@@ -7,33 +7,11 @@ from askorhold.least import least_price
 from askorhold.rooms import closed_lot, fewest_deeds, is_closed_lot, least_room
 from askorhold.webs import open_below
 from shapes import CASES, WEBS, chance_webs, check_too_many, line, lots, star, web_of_callees
+from steps import WORDS, levels, plain_fewest
 from things import ANY, spoiled
 
 LINE = web_of_callees(line(4))
-WORDS = ("put", "take", "throw")
 SMALL = ((LINE, (), 3), (LINE, (1,), 3), (web_of_callees(star(4), (1, 2), (0, 1)), (), 3), ((((), 1, 7),), (), 0), (WEBS[25], (), 5))
-
-
-def levels(web, known, k, nodes):
-    """The LOTS that rows of DEEDS of some NODES lead to in k, a list for each number of DEEDS."""
-    seen, level = {()}, [()]
-    while level:
-        yield level
-        found = set()
-        for held in level:
-            for deed in [(word, v) for word in WORDS for v in nodes]:
-                if fits(web, known, k, held, deed):
-                    found.add(behind(held, deed))
-        level = sorted(found - seen)
-        seen |= found
-
-
-def plain_fewest(web, known, w, k, nodes):
-    """How many DEEDS at least a row has that COMES to w in k, None if none does."""
-    for many, level in enumerate(levels(web, known, k, nodes)):
-        if any(comes(web, known, k, held, w) for held in level):
-            return many
-    return None
 
 
 def plain_least(web, known, w, nodes):
