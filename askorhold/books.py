@@ -3,7 +3,7 @@
 from askorhold.bodies import NoteTaker, body_value, is_need, table_of
 from askorhold.forms import are_alike, are_alike_calls, is_call, is_lot, is_result, is_tuple, marks_of, weight
 from askorhold.runs import run
-from askorhold.trees import found_function, lets_deep
+from askorhold.trees import lets_deep
 from askorhold.webs import below
 
 
@@ -96,15 +96,8 @@ def taken_by(program, book, index):
 
 def web_of(program, book):
     """Return the WEB of a BOOK."""
-    return tuple([(callees, weight(result), reading_of(program, call[0])) for call, result, callees in book])
-
-
-def reading_of(program, name):
-    """Return the reading of the CALLS of a NAME."""
-    function = found_function(program, name)
-    if function is None:
-        return 0
-    return lets_deep(function[2])
+    readings = {function[0]: lets_deep(function[2]) for function in program}
+    return tuple([(callees, weight(result), readings.get(call[0], 0)) for call, result, callees in book])
 
 
 def part_of(book, index):

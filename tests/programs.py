@@ -2,6 +2,7 @@
 
 import random
 
+from askorhold.books import book_of
 from askorhold.reader import read_program
 
 FIB = read_program("fun fib ( n ) = if n < 2 then n else let m = n - 1 in fib ( m ) + fib ( m - 1 ) ;")
@@ -54,3 +55,40 @@ class Programs:
 
     def program(self):
         return read_program(" ".join(f"fun {name} ( x ) = if x == 0 or x == [ ] then 1 else {self.body(3)} ;" for name in "fgh"))
+
+
+class Falling:
+    """PROGRAMS of four FUNCTIONS that call one another with lesser numbers, and so end; always the same ones for a seed."""
+
+    def __init__(self, seed):
+        self.chance = random.Random(seed)
+
+    def call(self):
+        return f"{self.chance.choice('fghk')} ( {self.chance.choice(['n - 1', 'n - 1', 'n - 2', 'n / 2'])} )"
+
+    def body(self):
+        shape = self.chance.choice((
+            "{} + {}", "[ {} , {} ]", "let m = {} in [ m , {} , m ]", "if {} == {} then {} else n", "size ( [ {} , {} ] )", "{} * 2",
+            "let m = let m = {} in m in let k = {} in if m == k then [ ] else {}", "n", "if {} < 3 then {} else {}", "[ {} , {} , {} ]",
+            "if {} == 1 then {} else {}",
+        ))
+        return shape.format(*[self.call() for _ in range(3)])
+
+    def function(self, name):
+        base = self.chance.choice(["n", "1", "[ ]", "[ n ]", "true", "0"])
+        return f"fun {name} ( n ) = if n < {self.chance.randint(1, 2)} then {base} else {self.body()} ;"
+
+    def program(self):
+        return read_program(" ".join(self.function(name) for name in "fghk"))
+
+
+def falling_runs(seed, many, least, most):
+    """Tuples (PROGRAM, BOOK) of falling PROGRAMS, each BOOK having as many ENTRIES as told."""
+    falling = Falling(seed)
+    found = []
+    while len(found) < many:
+        program = falling.program()
+        book = book_of(program, ("f", (falling.chance.randint(2, 7),)), 60)
+        if least <= len(book) <= most:
+            found.append((program, book))
+    return found

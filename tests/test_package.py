@@ -48,6 +48,20 @@ INTERFACE = {
               "led(web,known,k,deeds)",
     "ranks": "is_tree(web) is_ranks(web,thing) least_ranks(web) ranks_of_plan(web,plan) least_rank(web) "
              "plan_of_ranks(web,ranks)",
+    "skeletons": "is_skeleton(thing) skeleton_of(program,book) web_in(skeleton) index_in(skeleton,call) "
+                 "staying(program,skeleton,other,later)",
+    "holder": "Holder(program,skeleton,room)",
+    "facts": "fact_of(facts,call,result) with_fact(facts,call,result,is_right) known_right(facts,book) known_wrong(facts,book)",
+    "session": "Session(program)",
+    "desk": "Desk(text)",
+}
+# What the document lists for each class: these stand in its own body.
+METHODS = {
+    "Holder": "program() skeleton() held() known() order() tape() room() size() show(index) wish(index) plan(index) way_to(index) "
+              "do(deed) know(index) rewind(many) edit(program,skeleton) twin()",
+    "Session": "program() facts() book() run(name,values) edit(function) undo() answer(is_right) seek(index) question() blamed() "
+               "spent() left()",
+    "Desk": "execute(line) session() holder()",
 }
 # What LANGUAGE.md lets in from outside, here.
 LIBRARY = {"heapq": ["heappop", "heappush"]}
@@ -85,6 +99,19 @@ class InterfaceTest(unittest.TestCase):
                     wanted = [argument for argument in rest.rstrip(")").split(",") if argument]
                     self.assertEqual(arguments_of(getattr(module, word)), wanted)
 
+    def test_each_method_stands_in_its_class_with_its_arguments(self):
+        for word, listed in METHODS.items():
+            name = word.lower()
+            thing = getattr(importlib.import_module("askorhold." + name), word)
+            body = [node.body for node in tree_of(name).body if isinstance(node, ast.ClassDef) and node.name == word][0]
+            defined = [node.name for node in body if isinstance(node, ast.FunctionDef)]
+            for entry in listed.split():
+                method, _, rest = entry.partition("(")
+                with self.subTest(name=word, method=method):
+                    self.assertIn(method, defined)
+                    wanted = [argument for argument in rest.rstrip(")").split(",") if argument]
+                    self.assertEqual(arguments_of(getattr(thing, method)), wanted)
+
     def test_the_folder_holds_just_the_modules(self):
         files = sorted(name for name in os.listdir(FOLDER) if name != "__pycache__")
         self.assertEqual(files, sorted(["__init__.py"] + [name + ".py" for name in INTERFACE]))
@@ -92,6 +119,16 @@ class InterfaceTest(unittest.TestCase):
 
 
 class LanguageTest(unittest.TestCase):
+    def test_no_name_of_a_class_is_both_a_method_and_an_attribute(self):
+        for name in INTERFACE:
+            for node in tree_of(name).body:
+                if isinstance(node, ast.ClassDef):
+                    methods = [part.name for part in node.body if isinstance(part, ast.FunctionDef)]
+                    self.assertEqual(len(set(methods)), len(methods))
+                    for part in ast.walk(node):
+                        if isinstance(part, ast.Attribute) and isinstance(part.ctx, ast.Store):
+                            self.assertNotIn(part.attr, methods, (name, node.name))
+
     def test_sizes_and_signs(self):
         for name in INTERFACE:
             text = source_of(name)
