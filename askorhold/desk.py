@@ -1,6 +1,7 @@
 """The desk: a Session and a Holder, led by lines [39]."""
 
 from askorhold.booktexts import read_call, show_book, show_call, show_result
+from askorhold.deeds import WORDS
 from askorhold.errors import NoCommand, NoTree, Nothing, TooMany, Wrong
 from askorhold.forms import is_string
 from askorhold.holder import Holder
@@ -59,24 +60,6 @@ def held_text(holder):
     return " ".join(words + [str(node) for node in holder.known()])
 
 
-def put_done(holder, index):
-    """Put a NODE, and return what is held."""
-    holder.do(("put", index))
-    return held_text(holder)
-
-
-def take_done(holder, index):
-    """Take a NODE, and return what is held."""
-    holder.do(("take", index))
-    return held_text(holder)
-
-
-def throw_done(holder, index):
-    """Throw a NODE, and return what is held."""
-    holder.do(("throw", index))
-    return held_text(holder)
-
-
 def know_done(holder, index):
     """Make a NODE known, and return what is held."""
     holder.know(index)
@@ -109,8 +92,7 @@ SESSION_LINES = {
     "wrong": answered_wrong, "spent": spent_text,
 }
 HOLDER_LINES = {
-    "put": put_done, "take": take_done, "throw": throw_done, "know": know_done, "rewind": rewind_done,
-    "show": shown_text, "wish": wished_text, "plan": price_text,
+    "know": know_done, "rewind": rewind_done, "show": shown_text, "wish": wished_text, "plan": price_text,
 }
 
 
@@ -181,6 +163,9 @@ class Desk:
 
     def _done_with(self, line, word, number):
         """Do what a line of a word and a number says."""
+        if word in WORDS:
+            self._opened().do((word, number))
+            return held_text(self._holder)
         if word in HOLDER_LINES:
             action = HOLDER_LINES[word]
             return action(self._opened(), number)

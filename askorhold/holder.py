@@ -165,8 +165,7 @@ class Holder:
         if index in self._results:
             return self._results[index]
         notes = tuple([(self._skeleton[node][0], self._results[node]) for node in self._results])
-        _, result, _ = worked_out(self._program, self._skeleton[index][0], notes)
-        return result
+        return worked_out(self._program, self._skeleton[index][0], notes)[1]
 
     def _hold(self, deed):
         """Hold what is held behind a DEED, with its RESULTS; ORDER and TAPE are as they were."""

@@ -36,7 +36,8 @@ def least_ranks(web):
     """Return RANKS the greatest of which is as little as can be."""
     found = {}
     seen = []
-    for callees, _, _ in web:
+    for node in web:
+        callees = node[0]
         ranks = least_above([seen[callee] for callee in callees])
         found.update(dict(zip(callees, ranks)))
         through = [seen_through(found[callee], seen[callee]) for callee in callees]

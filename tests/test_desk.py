@@ -79,10 +79,12 @@ class BeginTest(DeskTest):
     def test_the_examples(self):
         desk = Desk(TWICE)
         self.tells(
-            desk, ("question", "none"), ("run twice ( 2 )", "5"), ("book", "0 : one ( 2 ) = 3 <\n1 : twice ( 2 ) = 5 < 0"), ("seek 1", "promise 2"),
+            desk, ("question", "none"), ("run twice ( 2 )", "5"), ("book", "0 : one ( 2 ) = 3 <\n1 : twice ( 2 ) = 5 < 0"),
+            ("seek 1", "promise 2"),
             ("question", "ask 0 : one ( 2 ) = 3"), ("wrong", "blamed 0 : one ( 2 )"), ("spent", "spent 2 left 0"), ("open 2", "open 2"),
             ("put 0", "held 0 size 1 room 2 known"), ("wish 1", "5"), ("plan 1", "price 2"),
-            ("fun twice ( x ) = one ( x ) + one ( 0 ) ;", "edited twice"), ("run twice ( 2 )", "4"), ("held", "held 0 size 1 room 2 known"), ("show 0", "3"),
+            ("fun twice ( x ) = one ( x ) + one ( 0 ) ;", "edited twice"), ("run twice ( 2 )", "4"),
+            ("held", "held 0 size 1 room 2 known"), ("show 0", "3"),
         )
         self.no_command(desk, "put 01")
         self.no_command(desk, "")
@@ -98,11 +100,16 @@ class SessionLinesTest(DeskTest):
         book = "0 : one ( 2 ) = 3 <\n1 : twice ( 2 ) = 5 < 0\n2 : one ( 0 ) = 1 <\n3 : twice ( 0 ) = 1 < 2\n4 : both ( 2 ) = [ 5 , 3 , 1 ] < 0 1 3"
         program = "\n".join(part.strip() + " ;" for part in BOTH.split(";")[:-1])
         self.tells(
-            desk, ("book", "none"), ("program", program), ("question", "none"), ("spent", "spent 0 left 0"), ("run both ( 2 )", "[ 5 , 3 , 1 ]"),
-            ("book", book), ("question", "none"), ("spent", "spent 0 left 0"), ("seek 4", "promise 3"), ("question", "ask 0 : one ( 2 ) = 3"),
-            ("spent", "spent 0 left 3"), ("right", "ask 3 : twice ( 0 ) = 1"), ("question", "ask 3 : twice ( 0 ) = 1"), ("spent", "spent 1 left 2"),
-            ("right", "ask 1 : twice ( 2 ) = 5"), ("right", "blamed 4 : both ( 2 )"), ("question", "blamed 4 : both ( 2 )"), ("spent", "spent 3 left 0"),
-            ("undo", "undone"), ("wrong", "blamed 1 : twice ( 2 )"), ("undo", "undone"), ("undo", "undone"), ("wrong", "ask 2 : one ( 0 ) = 1"),
+            desk, ("book", "none"), ("program", program), ("question", "none"), ("spent", "spent 0 left 0"),
+            ("run both ( 2 )", "[ 5 , 3 , 1 ]"),
+            ("book", book), ("question", "none"), ("spent", "spent 0 left 0"), ("seek 4", "promise 3"),
+            ("question", "ask 0 : one ( 2 ) = 3"),
+            ("spent", "spent 0 left 3"), ("right", "ask 3 : twice ( 0 ) = 1"), ("question", "ask 3 : twice ( 0 ) = 1"),
+            ("spent", "spent 1 left 2"),
+            ("right", "ask 1 : twice ( 2 ) = 5"), ("right", "blamed 4 : both ( 2 )"), ("question", "blamed 4 : both ( 2 )"),
+            ("spent", "spent 3 left 0"),
+            ("undo", "undone"), ("wrong", "blamed 1 : twice ( 2 )"), ("undo", "undone"), ("undo", "undone"),
+            ("wrong", "ask 2 : one ( 0 ) = 1"),
             ("wrong", "blamed 2 : one ( 0 )"), ("spent", "spent 3 left 0"), ("book", book),
         )
 
@@ -112,11 +119,14 @@ class SessionLinesTest(DeskTest):
             desk, session = Desk(show_program(program)), Session(program)
             chance = random.Random(seed)
             for _ in range(25):
-                index, kind = chance.randrange(len(book) + 1), chance.choice(("run", "edit", "seek", "seek", "right", "wrong", "right", "wrong", "undo"))
+                index = chance.randrange(len(book) + 1)
+                kind = chance.choice(("run", "edit", "seek", "seek", "right", "wrong", "right", "wrong", "undo"))
                 call = book[min(index, len(book) - 1)][0]
                 line, name, arguments = {
-                    "run": ("run " + show_call(call), "run", call), "edit": (show_function(program[seed % 4]), "edit", (program[seed % 4],)),
-                    "seek": (f"seek {index}", "seek", (index,)), "right": ("right", "answer", (True,)), "wrong": ("wrong", "answer", (False,)),
+                    "run": ("run " + show_call(call), "run", call),
+                    "edit": (show_function(program[seed % 4]), "edit", (program[seed % 4],)),
+                    "seek": (f"seek {index}", "seek", (index,)), "right": ("right", "answer", (True,)),
+                    "wrong": ("wrong", "answer", (False,)),
                     "undo": ("undo", "undo", ()),
                 }[kind]
                 ended, wanted = told(desk, "execute", line), told(session, name, *arguments)
@@ -147,7 +157,8 @@ class SessionLinesTest(DeskTest):
     def test_edits(self):
         desk = Desk(FIB)
         self.tells(desk, ("fun new ( a , b ) = a + b ;", "edited new"), ("run new ( 3 , -4 )", "-1"), ("fun fib ( n ) = true ;", "edited fib"))
-        self.tells(desk, ("book", "none"), ("run fib ( [ ] )", "true"), ("run fab ( )", "fault count"), ("run new ( [ 1 ] , [ [ ] ] )", "[ 1 , [ ] ]"))
+        self.tells(desk, ("book", "none"), ("run fib ( [ ] )", "true"), ("run fab ( )", "fault count"))
+        self.tells(desk, ("run new ( [ 1 ] , [ [ ] ] )", "[ 1 , [ ] ]"))
         self.assertEqual(desk.session().program(), read_program("fun fib ( n ) = true ; fun new ( a , b ) = a + b ;"))
 
     def test_errors_of_what_is_called(self):
@@ -180,11 +191,15 @@ class HolderLinesTest(DeskTest):
     def test_each_line(self):
         desk = self.led(FIB, "run fib ( 4 )")
         self.tells(
-            desk, ("open 3", "open 3"), ("held", "held size 0 room 3 known"), ("put 0", "held 0 size 1 room 3 known"), ("put 1", "held 0 1 size 2 room 3 known"),
+            desk, ("open 3", "open 3"), ("held", "held size 0 room 3 known"), ("put 0", "held 0 size 1 room 3 known"),
+            ("put 1", "held 0 1 size 2 room 3 known"),
             ("put 2", "held 0 1 2 size 3 room 3 known"), ("show 3", "2"), ("plan 3", "price 3"), ("take 1", "held 0 2 size 2 room 3 known"),
-            ("put 3", "held 0 2 3 size 3 room 3 known"), ("plan 4", "price 3"), ("show 4", "3"), ("rewind 2", "held 0 1 2 size 3 room 3 known"),
-            ("rewind 0", "held 0 1 2 size 3 room 3 known"), ("throw 2", "held 0 1 size 2 room 3 known"), ("know 1", "held 0 size 1 room 3 known 1"),
-            ("wish 4", "3"), ("know 2", "held 0 size 1 room 3 known 1 2"), ("know 0", "held size 0 room 3 known 0 1 2"), ("wish 3", "2"), ("wish 0", "1"),
+            ("put 3", "held 0 2 3 size 3 room 3 known"), ("plan 4", "price 3"), ("show 4", "3"),
+            ("rewind 2", "held 0 1 2 size 3 room 3 known"),
+            ("rewind 0", "held 0 1 2 size 3 room 3 known"), ("throw 2", "held 0 1 size 2 room 3 known"),
+            ("know 1", "held 0 size 1 room 3 known 1"),
+            ("wish 4", "3"), ("know 2", "held 0 size 1 room 3 known 1 2"), ("know 0", "held size 0 room 3 known 0 1 2"), ("wish 3", "2"),
+            ("wish 0", "1"),
             ("held", "held size 0 room 3 known 0 1 2"), ("open 0", "open 0"), ("held", "held size 0 room 0 known"),
         )
         self.assertEqual(desk.holder().room(), 0)
@@ -266,7 +281,7 @@ class HolderLinesTest(DeskTest):
         self.tells(desk, ("held", "held size 0 room 1 known"), ("question", "none"))
 
     def test_faults_and_lists(self):
-        desk = self.led("fun f ( ) = [ g ( ) , [ ] , true ] ; fun g ( ) = [ -1 * 3 ] ; fun h ( ) = 1 / 0 ;".replace("-1 * 3", "0 - 3"), "run f ( )", "open 9")
+        desk = self.led("fun f ( ) = [ g ( ) , [ ] , true ] ; fun g ( ) = [ 0 - 3 ] ; fun h ( ) = 1 / 0 ;", "run f ( )", "open 9")
         self.tells(desk, ("show 0", "[ -3 ]"), ("wish 1", "[ [ -3 ] , [ ] , true ]"), ("put 0", "held 0 size 2 room 9 known"))
         self.tells(desk, ("run h ( )", "fault zero"), ("show 0", "fault zero"), ("held", "held size 0 room 9 known"))
 
@@ -280,18 +295,26 @@ class LinesTest(DeskTest):
     def test_lines_that_are_none(self):
         long = "1" * 41
         lines = [
-            "", " ", "\n", " \n \n", "Held", "helds", "run", "run fib", "run fib ( 2", "run fib ( 2 ) 3", "run ( 2 )", "run fib ( n )", "run fib ( 02 )",
-            "run fib ( -0 )", "run fib(2)", "run 2", "run if ( )", "run run ( )  1", "runs fib ( 2 )", "fun", "fun fib", "fun fib ( n ) = m ;",
-            "fun fib ( n ) = n", "fun fib ( n ) = n ; fun f ( ) = 1 ;", "fun fib ( n ) = n ; ;", "funs", "undo 1", "undo undo", "a", "1", "0 put", "; ", ".",
-            "open three", "open 3 3", "open -1", "open +1", "put 0 1", "put - 1", "put 1.0", "put 0x1", "know know", "put zero", "show true", "wish [ ]",
-            "go 1", "take1", "tape", "tape 1", "known", "known 1", "know 0 1", "way 1", "way_to 1", "edit", "answer true", "blamed", "left", "facts", "twin",
-            "run up ( " + "1" * 41 + " )", "run up ( " + "[ " * 101 + "] " * 101 + ")", "run up ( [ " + " , ".join("1" for _ in range(200)) + " ] )",
-            "fun up ( n ) = " + "( " * 31 + "n" + " )" * 31 + " ;", "fun up ( n ) = " + " + ".join("n" for _ in range(13)) + " ;", "fun up ( n ) = " + long + " ;",
+            "", " ", "\n", " \n \n", "Held", "helds", "run", "run fib", "run fib ( 2", "run fib ( 2 ) 3", "run ( 2 )", "run fib ( n )",
+            "run fib ( 02 )",
+            "run fib ( -0 )", "run fib(2)", "run 2", "run if ( )", "run run ( )  1", "runs fib ( 2 )", "fun", "fun fib",
+            "fun fib ( n ) = m ;",
+            "fun fib ( n ) = n", "fun fib ( n ) = n ; fun f ( ) = 1 ;", "fun fib ( n ) = n ; ;", "funs", "undo 1", "undo undo", "a", "1",
+            "0 put", "; ", ".",
+            "open three", "open 3 3", "open -1", "open +1", "put 0 1", "put - 1", "put 1.0", "put 0x1", "know know", "put zero",
+            "show true", "wish [ ]",
+            "go 1", "take1", "tape", "tape 1", "known", "known 1", "know 0 1", "way 1", "way_to 1", "edit", "answer true", "blamed",
+            "left", "facts", "twin",
+            "run up ( " + "1" * 41 + " )", "run up ( " + "[ " * 101 + "] " * 101 + ")",
+            "run up ( [ " + " , ".join("1" for _ in range(200)) + " ] )",
+            "fun up ( n ) = " + "( " * 31 + "n" + " )" * 31 + " ;", "fun up ( n ) = " + " + ".join("n" for _ in range(13)) + " ;",
+            "fun up ( n ) = " + long + " ;",
         ]
         for word in LINES:
             lines += [word + " 1", word + " 0", word + " " + word, word.upper(), word + ";", word + " ;"]
         for word in NUMBERED:
-            lines += [f"{word} {rest}" for rest in ("", "01", "00", "-1", "-0", "+1", long, "0" * 40, "1 1", "a", "1a", "1 ;", "I", "K", "1\t", "[ ]", "true")]
+            rests = ("", "01", "00", "-1", "-0", "+1", long, "0" * 40, "1 1", "a", "1a", "1 ;", "I", "K", "1\t", "[ ]", "true")
+            lines += [f"{word} {rest}" for rest in rests]
             lines += [word.upper() + " 1", "1 " + word, word + "s 1", word + "1"]
         for desk in (Desk(FIB), self.led(FIB, "run fib ( 4 )", "open 3", "put 0", "seek 4")):
             before = shot(desk)
@@ -304,9 +327,11 @@ class LinesTest(DeskTest):
     def test_what_can_just_be_read(self):
         desk = Desk("fun up ( n ) = n ;")
         self.tells(
-            desk, ("run up ( " + "9" * 40 + " )", "9" * 40), ("run up ( " + ("[ " * 100 + "] " * 100).strip() + " )", ("[ " * 100 + "] " * 100).strip()),
+            desk, ("run up ( " + "9" * 40 + " )", "9" * 40),
+            ("run up ( " + ("[ " * 100 + "] " * 100).strip() + " )", ("[ " * 100 + "] " * 100).strip()),
             ("run up ( [ " + " , ".join("1" for _ in range(199)) + " ] )", "[ " + " , ".join("1" for _ in range(199)) + " ]"),
-            ("fun up ( n ) = " + " + ".join("n" for _ in range(12)) + " ;", "edited up"), ("run up ( 1 )", "12"), ("open " + "9" * 40, "open " + "9" * 40),
+            ("fun up ( n ) = " + " + ".join("n" for _ in range(12)) + " ;", "edited up"), ("run up ( 1 )", "12"),
+            ("open " + "9" * 40, "open " + "9" * 40),
         )
 
     def test_any_value(self):

@@ -411,7 +411,8 @@ class EditTest(HolderTest):
     def test_wrong_arguments(self):
         holder = self.held((("put", 0), ("put", 1)))
         skeleton = holder.skeleton()
-        rows = [(0, (None, None)), (0, ((), skeleton)), (0, (skeleton, PLAIN)), (1, (PLAIN, PLAIN)), (1, (PLAIN, skeleton[1:])), (1, (PLAIN, list(skeleton)))]
+        rows = [(0, (None, None)), (0, ((), skeleton)), (0, (skeleton, PLAIN))]
+        rows += [(1, (PLAIN, thing)) for thing in (PLAIN, skeleton[1:], list(skeleton))]
         rows += [(0, (thing, skeleton)) for thing in ANY] + [(1, (PLAIN, thing)) for thing in ANY]
         rows += [(0, (thing, skeleton)) for thing in spoiled(PLAIN) if not is_program(thing)]
         rows += [(1, (PLAIN, thing)) for thing in spoiled(skeleton) if not is_skeleton(thing)]
@@ -436,6 +437,18 @@ class TwinTest(HolderTest):
         self.assertEqual([state_of(twin), twin.show(0), twin.show(1)], [before, 1, 0])
         twin.rewind(0)
         self.assertEqual([holder.held(), holder.known(), holder.program()], [(), (), SHARED])
+
+
+class ReturnedTest(HolderTest):
+    def test_all_that_is_returned_is_made_of_tuples(self):
+        # So no caller can change the Holder by what it returned.
+        holder = self.held((("put", 0), ("put", 1), ("take", 1)))
+        holder.know(0)
+        waiting = list(state_of(holder)) + [holder.show(1), holder.wish(4), holder.plan(1), holder.way_to(4)]
+        while waiting:
+            part = waiting.pop()
+            self.assertIn(type(part), (tuple, int, str, bool))
+            waiting.extend(part if type(part) is tuple else ())
 
 
 class LivesTest(HolderTest):

@@ -88,29 +88,26 @@ def arguments_of(thing):
 
 
 class InterfaceTest(unittest.TestCase):
+    def check(self, owner, body, listed):
+        """Check that each name that is listed is defined in a body, with its arguments."""
+        defined = [node.name for node in body if isinstance(node, (ast.FunctionDef, ast.ClassDef))]
+        for entry in listed.split():
+            word, _, rest = entry.partition("(")
+            with self.subTest(owner=owner, word=word):
+                self.assertIn(word, defined)
+                wanted = [argument for argument in rest.rstrip(")").split(",") if argument]
+                self.assertEqual(arguments_of(getattr(owner, word)), wanted)
+
     def test_each_name_is_defined_in_its_file_with_its_arguments(self):
         for name, listed in INTERFACE.items():
-            module = importlib.import_module("askorhold." + name)
-            defined = [node.name for node in tree_of(name).body if isinstance(node, (ast.FunctionDef, ast.ClassDef))]
-            for entry in listed.split():
-                word, _, rest = entry.partition("(")
-                with self.subTest(module=name, word=word):
-                    self.assertIn(word, defined)
-                    wanted = [argument for argument in rest.rstrip(")").split(",") if argument]
-                    self.assertEqual(arguments_of(getattr(module, word)), wanted)
+            self.check(importlib.import_module("askorhold." + name), tree_of(name).body, listed)
 
     def test_each_method_stands_in_its_class_with_its_arguments(self):
         for word, listed in METHODS.items():
             name = word.lower()
-            thing = getattr(importlib.import_module("askorhold." + name), word)
+            owner = getattr(importlib.import_module("askorhold." + name), word)
             body = [node.body for node in tree_of(name).body if isinstance(node, ast.ClassDef) and node.name == word][0]
-            defined = [node.name for node in body if isinstance(node, ast.FunctionDef)]
-            for entry in listed.split():
-                method, _, rest = entry.partition("(")
-                with self.subTest(name=word, method=method):
-                    self.assertIn(method, defined)
-                    wanted = [argument for argument in rest.rstrip(")").split(",") if argument]
-                    self.assertEqual(arguments_of(getattr(thing, method)), wanted)
+            self.check(owner, body, listed)
 
     def test_the_folder_holds_just_the_modules(self):
         files = sorted(name for name in os.listdir(FOLDER) if name != "__pycache__")
